@@ -46,7 +46,7 @@ func TestAddErrors(t *testing.T) {
 		checkAdd(t, c.w, c.at, tags(c.list), c.room)
 	}
 	for _, room := range farInts {
-		if got := add(w, 20, tags("c"), room); !got.same(refused(api.ErrArg)) && room != 4096 {
+		if got := add(w, 20, tags("c"), room); !got.same(refused(api.ErrArg)) {
 			t.Errorf("Add with room %d = %v", room, got)
 		}
 	}

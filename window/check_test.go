@@ -80,7 +80,7 @@ func TestCheckEachWord(t *testing.T) {
 		{"a Number at Newest - span at the top", win(top, epoch(top-7, "a")), win(top, epoch(top-8, "a")), 8, 9},
 		{"an epoch with no tag", win(3, two(2, 3)...), win(3, epoch(2, "a"), epoch(3, "")), 8, 9},
 		{"the first epoch with no tag", win(3, two(2, 3)...), win(3, epoch(2, ""), epoch(3, "b")), 8, 9},
-		{"the only epoch with no tag", win(3, epoch(3, "a")), win(3, epoch(3, "")), 8, 0 + 1},
+		{"the only epoch with no tag", win(3, epoch(3, "a")), win(3, epoch(3, "")), 8, 1},
 		{"tags that stand still", win(3, epoch(3, "ab")), win(3, epoch(3, "bb")), 8, 9},
 		{"tags that fall", win(3, epoch(3, "ab")), win(3, epoch(3, "ba")), 8, 9},
 		{"the last tags stand still", win(3, epoch(3, "abc")), win(3, epoch(3, "abb")), 8, 9},

@@ -86,7 +86,7 @@ func TestOpenKeeps(t *testing.T) {
 	if got := open(w, 10, 3); !got.same(want) {
 		t.Errorf("Open(%s, 10, 3) = %v; want %v", told(w), got, want)
 	}
-	// Beside a Newest near 0 all from -span on, without span, stay, those below 0 too.
+	// Beside a Newest of 0 those above -span stay, even below 0.
 	w = win(0, epoch(-9, "a"), epoch(-8, "b"), epoch(-7, "c"), epoch(-1, "d"), epoch(0, "e"))
 	want = answer{W: win(0, epoch(-7, "c"), epoch(-1, "d"), epoch(0, "e"))}
 	if got := open(w, 0, 8); !got.same(want) {
