@@ -2,7 +2,6 @@ package line
 
 import (
 	"churn/api"
-	"churn/braid"
 	"churn/onion"
 	"churn/round"
 	"churn/route"
@@ -96,21 +95,8 @@ func (b *batch) addNoise() (e api.Errno) {
 	if e != api.OK {
 		return e
 	}
-	b.chunks, e = cut(append(steps.Cells(b.fresh), cover...), b.config.Chunks)
+	b.chunks, e = steps.Cut(append(steps.Cells(b.fresh), cover...), b.config.Chunks)
 	return e
-}
-
-// cut: a list in so many chunks.
-func cut(cells [][]byte, chunks int) ([][][]byte, api.Errno) {
-	sizes, e := braid.Sizes(len(cells), chunks)
-	if e != api.OK {
-		return nil, e
-	}
-	pieces := make([][][]byte, chunks)
-	for j, size := range sizes {
-		pieces[j], cells = cells[:size], cells[size:]
-	}
-	return pieces, api.OK
 }
 
 // shuffle: step 6, for one chunk.

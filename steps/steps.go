@@ -49,6 +49,19 @@ func Noise(c api.Config, fresh int, part []byte) ([][]byte, api.Errno) {
 	return noise.Cells(part, k, c.Left-1)
 }
 
+// Cut: a list in the chunks of step 6, none of them a copy.
+func Cut[T any](list []T, chunks int) ([][]T, api.Errno) {
+	sizes, e := braid.Sizes(len(list), chunks)
+	if e != api.OK {
+		return nil, e
+	}
+	pieces := make([][]T, chunks)
+	for j, size := range sizes {
+		pieces[j], list = list[:size], list[size:]
+	}
+	return pieces, api.OK
+}
+
 // Chunk: of step 6 what is done to one chunk, its things in the order that its part of the tape gives them.
 func Chunk[T any](part []byte, things []T) ([]T, api.Errno) {
 	draws, _, e := draw.All(part, perm.Bounds(len(things)))
@@ -62,8 +75,8 @@ func Chunk[T any](part []byte, things []T) ([]T, api.Errno) {
 	return perm.Apply(own, things)
 }
 
-// Braid: of step 6 the end, the chunks' things in one list, by the braid's part of the tape.
-func Braid[T any](part []byte, chunks [][]T) ([]T, api.Errno) {
+// Pattern: of step 6 from which chunk each place's thing comes, by the braid's part of the tape.
+func Pattern[T any](part []byte, chunks [][]T) ([]int, api.Errno) {
 	n, sizes := 0, make([]int, len(chunks))
 	for j, things := range chunks {
 		sizes[j] = len(things)
@@ -74,6 +87,12 @@ func Braid[T any](part []byte, chunks [][]T) ([]T, api.Errno) {
 		return nil, e
 	}
 	pattern, _, e := braid.Pattern(sizes, draws)
+	return pattern, e
+}
+
+// Braid: of step 6 the end, the chunks' things in one list, by the braid's part of the tape.
+func Braid[T any](part []byte, chunks [][]T) ([]T, api.Errno) {
+	pattern, e := Pattern(part, chunks)
 	if e != api.OK {
 		return nil, e
 	}
@@ -82,7 +101,7 @@ func Braid[T any](part []byte, chunks [][]T) ([]T, api.Errno) {
 
 // Close: steps 7 and 8, the fresh ones' tags in the window that was opened, and the shuffled cells as bytes. h is the header with which the batch came in.
 func Close(c api.Config, w api.Window, h api.Header, fresh []api.Peeled, cells [][]byte, report api.Report) (api.Outcome, api.Errno) {
-	w, e := window.Add(w, h.Epoch, tagsOf(fresh), c.Room)
+	w, e := window.Add(w, h.Epoch, Tags(fresh), c.Room)
 	if e != api.OK {
 		return api.Outcome{}, e
 	}
@@ -118,7 +137,8 @@ func Cells(fresh []api.Peeled) [][]byte {
 	return cells
 }
 
-func tagsOf(fresh []api.Peeled) [][api.TagSize]byte {
+// Tags: the replay tags of what was peeled, in its order.
+func Tags(fresh []api.Peeled) [][api.TagSize]byte {
 	var tags [][api.TagSize]byte
 	for _, p := range fresh {
 		tags = append(tags, p.Replay)

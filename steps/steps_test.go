@@ -90,16 +90,59 @@ func TestChunksAndBraid(t *testing.T) {
 
 func inPieces(p []byte, chunks int, list []int) ([]int, api.Errno) {
 	parts, _ := tape.Split(p, chunks)
-	sizes, _ := braid.Sizes(len(list), chunks)
-	lists := make([][]int, chunks)
-	for j, size := range sizes {
-		var e api.Errno
-		if lists[j], e = steps.Chunk(parts.Chunks[j], list[:size]); e != api.OK {
+	lists, e := steps.Cut(list, chunks)
+	if e != api.OK {
+		return nil, e
+	}
+	for j := range lists {
+		if lists[j], e = steps.Chunk(parts.Chunks[j], lists[j]); e != api.OK {
 			return nil, e
 		}
-		list = list[size:]
 	}
 	return steps.Braid(parts.Braid, lists)
+}
+
+// DOC.md, step 6: the chunks are pieces of the list, of the sizes that braid tells; refused where braid refuses.
+func TestCut(t *testing.T) {
+	list := rand.New(rand.NewSource(2232)).Perm(256)
+	for _, n := range []int{0, 1, 5, 64, 256} {
+		for _, chunks := range []int{1, 2, 3, 64} {
+			pieces, e := steps.Cut(list[:n], chunks)
+			sizes, _ := braid.Sizes(n, chunks)
+			if e != api.OK || len(pieces) != chunks || !slices.Equal(slices.Concat(pieces...), list[:n]) {
+				t.Errorf("%d things, %d chunks: %v, error %d", n, chunks, pieces, e)
+			}
+			for j, piece := range pieces {
+				if len(piece) != sizes[j] {
+					t.Errorf("%d things, %d chunks: chunk %d has %d; want %d", n, chunks, j, len(piece), sizes[j])
+				}
+			}
+		}
+	}
+	for _, x := range [][2]int{{5, 0}, {5, -1}, {5, 65}, {257, 3}} {
+		if pieces, e := steps.Cut(make([]int, x[0]), x[1]); e != api.ErrArg || pieces != nil {
+			t.Errorf("%d things, %d chunks: %v, error %d", x[0], x[1], pieces, e)
+		}
+	}
+}
+
+// DOC.md, step 6: the pattern tells for each place the chunk whose next thing the braid has there; refused where the braid is.
+func TestPattern(t *testing.T) {
+	r := rand.New(rand.NewSource(2233))
+	for range 500 {
+		lists, _ := steps.Cut(r.Perm(r.Intn(30)), 1+r.Intn(6))
+		p := make([]byte, r.Intn(60))
+		r.Read(p)
+		pattern, e := steps.Pattern(p, lists)
+		want, wantErr := steps.Braid(p, lists)
+		var woven []int
+		for _, j := range pattern {
+			woven, lists[j] = append(woven, lists[j][0]), lists[j][1:]
+		}
+		if e != wantErr || !slices.Equal(woven, want) {
+			t.Errorf("%v tells %v, error %d; want %v, %d", pattern, woven, e, want, wantErr)
+		}
+	}
 }
 
 // DOC.md, steps 7 and 8: the window with the new tags, the bytes with Left one lower, the next round and the report.
@@ -107,6 +150,9 @@ func TestClose(t *testing.T) {
 	h := api.Header{Round: 9, Epoch: 6, Left: 2}
 	fresh := []api.Peeled{{Cell: bytes.Repeat([]byte{5}, 320), Replay: [16]byte{9}}}
 	cells := append(steps.Cells(fresh), make([]byte, 320))
+	if !slices.Equal(steps.Tags(fresh), [][16]byte{{9}}) {
+		t.Errorf("tags %v", steps.Tags(fresh))
+	}
 	o, e := steps.Close(conf, state.Window, h, fresh, cells, api.Report{In: 3, Malformed: 1, Replays: 1})
 	if e != api.OK || o.Err != api.OK || o.At != 0 || o.Report != (api.Report{In: 3, Malformed: 1, Replays: 1, Noise: 1, Out: 2}) {
 		t.Errorf("%+v, error %d", o, e)
