@@ -121,7 +121,7 @@ func inFull(o api.Outcome) string {
 	return s + fmt.Sprintf(" %x\n", o.Out)
 }
 
-// knownRows: what another program, with keys, boxes, draws and windows of its own, told of each row: the eight rounds' errors, and the first bytes of the SHA-256 of all that they came to.
+// knownRows: the first of those that the tests of round have: what another program, with keys, boxes, draws and windows of its own, told of each row: the eight rounds' errors, and the first bytes of the SHA-256 of all that they came to.
 var knownRows = []struct{ errors, sum string }{
 	{"212 160 160 160 160 160 160 0", "eb343144e1c9e7540f0f1751becf0b08"},
 	{"160 0 211 212 0 0 0 160", "47081402a16d850211ce3e6f719d8e83"},
@@ -145,7 +145,7 @@ var knownRows = []struct{ errors, sum string }{
 	{"0 0 211 211 0 0 3 160", "318e2a650d2792b97228790cf8c1fbb2"},
 }
 
-// P23.1, P23.3 and P2: rows of rounds of which another program told the outcomes, each row by many kinds of crews, and by another one in each round.
+// P23.1, P23.3 and P2: the rows of rounds whose outcomes are known from the tests of round, each row by many kinds of crews, and by another one in each round.
 func TestKnownRows(t *testing.T) {
 	crews := [][3]int{{1, 0, 1}, {64, 0, 64}, {64, 1024, 1}, {3, 1, 5}, {8, 7, 2}, {2, 0, 64}}
 	for n, k := range knownRows {
