@@ -116,11 +116,11 @@ func Close(c api.Config, w api.Window, h api.Header, fresh []api.Peeled, cells [
 
 // Refused: the outcome of a round that changes nothing. The state may be any, sound or not.
 func Refused(s api.State, e api.Errno, at int) api.Outcome {
-	return api.Outcome{State: copyOf(s), Err: e, At: at}
+	return api.Outcome{State: CopyOf(s), Err: e, At: at}
 }
 
-// copyOf: a state whose lists are memory of their own. No layer that looks at windows makes it, for it need not be right.
-func copyOf(s api.State) api.State {
+// CopyOf: a state whose lists are memory of their own. No layer that looks at windows makes it, for it need not be right.
+func CopyOf(s api.State) api.State {
 	s.Window.Epochs = slices.Clone(s.Window.Epochs)
 	for i, e := range s.Window.Epochs {
 		s.Window.Epochs[i].Tags = slices.Clone(e.Tags)
